@@ -1,0 +1,1 @@
+"""Slowroad: two hands talk over a slow and bad road."""
