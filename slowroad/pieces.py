@@ -1,5 +1,6 @@
 """Pieces, tuples (kind, number, answer, room, held, signs), and the frames that they are written to."""
 
+from slowroad.bounds import is_from
 from slowroad.errors import NoFrame, NoPiece, Spoilt
 
 # The place of a kind, or of a sign, in its row here is what a frame bears for it.
@@ -35,11 +36,6 @@ def is_piece(thing):
         and is_held(thing[4])
         and are_signs(kind, thing[5])
     )
-
-
-def is_from(value, low, high):
-    # A truth is an int to Python, but no whole number.
-    return isinstance(value, int) and not isinstance(value, bool) and low <= value <= high
 
 
 def is_held(held):
@@ -97,8 +93,12 @@ def bits_of_signs(signs):
     return bits
 
 
+def is_frame(number):
+    return number >= 0 and number >> FRAME_BITS == 0
+
+
 def read(frame):
-    if frame < 0 or frame >> FRAME_BITS > 0:
+    if not is_frame(frame):
         raise NoFrame(frame)
     if remainder(frame) != 0:
         raise Spoilt(frame)

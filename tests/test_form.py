@@ -28,6 +28,7 @@ METHODS = set(
     "items join keys ljust lower lstrip partition pop remove replace reverse rfind rjust rpartition rsplit rstrip "
     "setdefault split splitlines startswith strip update upper values zfill bit_length".split()
 )
+FREE_VALUES = {"count", "index", "title", "find", "get", "join", "lower", "upper", "split", "strip", "copy", "add"}
 DUNDERS = ("__init__", "__eq__", "__repr__", "__str__", "__len__")
 UNUSED = set("register mro elements open input version_info with_traceback add_note format format_map args".split())
 WORDS = re.compile(
@@ -47,6 +48,20 @@ def trees():
 
 def nodes(kind):
     return [(path.name, node) for path, tree in trees() for node in ast.walk(tree) if isinstance(node, kind)]
+
+
+def called(node):
+    return node.func.attr if isinstance(node.func, ast.Attribute) else getattr(node.func, "id", None)
+
+
+def own_methods():
+    return {
+        inner.name for name, node in nodes(ast.ClassDef) for inner in node.body if isinstance(inner, ast.FunctionDef)
+    }
+
+
+def own_values():
+    return {node.attr for name, node in nodes(ast.Attribute) if isinstance(node.ctx, ast.Store)}
 
 
 class Form(unittest.TestCase):
@@ -153,11 +168,131 @@ class Form(unittest.TestCase):
                 self.assertIn(node.func.attr, METHODS | own, (name, node.lineno))
 
     def test_no_name_is_a_method_here_and_a_value_there(self):
-        methods = {
-            inner.name for name, node in nodes(ast.ClassDef) for inner in node.body if isinstance(inner, ast.FunctionDef)
-        }
-        stored = {node.attr for name, node in nodes(ast.Attribute) if isinstance(node.ctx, ast.Store)}
-        self.assertEqual(methods & stored, set())
+        self.assertEqual(own_methods() & own_values(), set())
+
+    def test_own_methods_and_values_bear_free_names(self):
+        taken = {name for kind in (str, int, list, dict, set, bytes, tuple) for name in dir(kind)}
+        self.assertEqual((own_methods() - set(DUNDERS)) & taken - METHODS - {"add", "discard"}, set())
+        self.assertEqual(own_values() & taken - FREE_VALUES, set())
+
+    def test_a_class_has_no_method_twice(self):
+        for name, node in nodes(ast.ClassDef):
+            methods = [inner.name for inner in node.body if isinstance(inner, ast.FunctionDef)]
+            self.assertEqual(len(methods), len(set(methods)), (name, node.name))
+
+    def test_classes_are_called_or_named_and_not_handed_on(self):
+        classes = {node.name for name, node in nodes(ast.ClassDef)}
+        for path, tree in trees():
+            named = []
+            for node in ast.walk(tree):
+                if isinstance(node, ast.Call):
+                    named.append(node.func)
+                    if isinstance(node.func, ast.Name) and node.func.id == "isinstance":
+                        named.extend(ast.walk(node.args[1]))
+                if isinstance(node, ast.ClassDef):
+                    named.extend(node.bases)
+                if isinstance(node, ast.ExceptHandler):
+                    named.extend(ast.walk(node.type))
+                if isinstance(node, ast.Attribute) and node.attr == "__init__":
+                    named.append(node.value)
+            for node in ast.walk(tree):
+                if isinstance(node, ast.Name) and node.id in classes:
+                    self.assertIn(node, named, (path.name, node.lineno))
+
+    def test_locals_are_not_called_like_classes_or_imports(self):
+        for path, tree in trees():
+            above = {node.name for node in tree.body if isinstance(node, (ast.ClassDef, ast.FunctionDef))}
+            above |= {alias.name for node in tree.body if isinstance(node, ast.ImportFrom) for alias in node.names}
+            for node in ast.walk(tree):
+                if isinstance(node, ast.arg):
+                    self.assertNotIn(node.arg, above, (path.name, node.lineno))
+                if isinstance(node, ast.Name) and isinstance(node.ctx, ast.Store):
+                    self.assertNotIn(node.id, above, (path.name, node.lineno))
+
+    def test_imports_come_from_the_file_that_defines_and_go_one_way(self):
+        defined, drawn = {}, {}
+        for path, tree in trees():
+            defined["slowroad." + path.stem] = {
+                node.targets[0].id if isinstance(node, ast.Assign) else node.name
+                for node in tree.body if isinstance(node, (ast.ClassDef, ast.FunctionDef, ast.Assign))
+            }
+            drawn["slowroad." + path.stem] = [n.module for n in ast.walk(tree) if isinstance(n, ast.ImportFrom)]
+        for name, node in nodes(ast.ImportFrom):
+            for alias in node.names:
+                self.assertIn(alias.name, defined[node.module], (name, node.lineno))
+        while drawn:
+            free = [module for module in drawn if not any(other in drawn for other in drawn[module])]
+            self.assertNotEqual(free, [], "files that draw from one another")
+            for module in free:
+                drawn.pop(module)
+
+    def test_every_import_is_used(self):
+        for path, tree in trees():
+            used = {node.id for node in ast.walk(tree) if isinstance(node, ast.Name)}
+            for node in tree.body:
+                if isinstance(node, ast.ImportFrom):
+                    self.assertEqual({alias.name for alias in node.names} - used, set(), path.name)
+
+    def test_errors_are_taken_by_name(self):
+        own = {node.name for name, node in nodes(ast.ClassDef) if name == "errors.py"} - {"RoadError"}
+        for name, node in nodes(ast.ExceptHandler):
+            self.assertIsNotNone(node.type, (name, node.lineno))
+            for kind in node.type.elts if isinstance(node.type, ast.Tuple) else [node.type]:
+                self.assertIn(kind.id, own | {"KeyError", "ZeroDivisionError"}, (name, node.lineno))
+        for name, node in nodes(ast.Raise):
+            self.assertIsInstance(node.exc, ast.Call, (name, node.lineno))
+
+    def test_is_stands_beside_none_and_truths_alone(self):
+        for name, node in nodes(ast.Compare):
+            for op, right in zip(node.ops, node.comparators):
+                if isinstance(op, (ast.Is, ast.IsNot)):
+                    self.assertIsInstance(right, ast.Constant, (name, node.lineno))
+                    self.assertIn(right.value, (None, True, False), (name, node.lineno))
+
+    def test_no_annotations_sets_and_powers(self):
+        for name, node in nodes(ast.arg):
+            self.assertIsNone(node.annotation, (name, node.lineno))
+        for name, node in nodes(ast.FunctionDef):
+            self.assertIsNone(node.returns, (name, node.lineno))
+        self.assertEqual(nodes((ast.Set, ast.AnnAssign)), [])
+        for name, node in nodes(ast.Name):
+            self.assertNotIn(node.id, ("set", "frozenset"), (name, node.lineno))
+        for name, node in nodes(ast.Pow):
+            self.fail((name, "a power"))
+
+    def test_keywords(self):
+        for name, node in nodes(ast.keyword):
+            self.assertIn(node.arg, ("key", "reverse", "default", "start", "strict"), (name, node.value.lineno))
+
+    def test_what_is_walked_is_walked_on_the_spot(self):
+        lazy = ("zip", "enumerate", "reversed", "range", "items", "keys", "values")
+        takers = ("list", "tuple", "dict", "sorted", "sum", "any", "all", "enumerate", "zip", "min", "max", "join")
+        for path, tree in trees():
+            walked = []
+            for node in ast.walk(tree):
+                if isinstance(node, (ast.For, ast.comprehension)):
+                    walked.append(node.iter)
+                if isinstance(node, ast.Call) and called(node) in takers:
+                    walked.extend(node.args)
+            for node in ast.walk(tree):
+                if isinstance(node, ast.Call) and called(node) in lazy:
+                    self.assertIn(node, walked, (path.name, node.lineno))
+
+    def test_f_strings_hold_plain_names(self):
+        for name, node in nodes(ast.FormattedValue):
+            self.assertIsInstance(node.value, ast.Name, (name, node.lineno))
+            self.assertIsNone(node.format_spec, (name, node.lineno))
+
+    def test_init_gives_nothing_back(self):
+        for name, node in nodes(ast.FunctionDef):
+            if node.name == "__init__":
+                self.assertEqual([n for n in ast.walk(node) if isinstance(n, ast.Return)], [], name)
+
+    def test_lists_and_dicts_of_a_files_top(self):
+        for path, tree in trees():
+            for node in tree.body:
+                if isinstance(node, ast.Assign):
+                    self.assertFalse([n for n in ast.walk(node.value) if isinstance(n, (ast.List, ast.Dict))], path)
 
 
 if __name__ == "__main__":
