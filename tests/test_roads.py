@@ -137,6 +137,10 @@ class Refused(unittest.TestCase):
         for copy in ((1, 0, 0), (5, 0, 0), (1, 66, 0), (1, 66, 255), (5, 0, 255), (1, 0, 1)):
             Road([[copy]], 5)
 
+    def test_what_is_no_tuple_of_three_whole_numbers(self):
+        for copy in ((), (1, 0), (1, 0, 0, 0), [1, 0, 0], (1, 0, None), ("1", 0, 0), (True, 0, 0), (1, False, 0)):
+            self.refuses([[], [copy]], 5, 1)
+
     def test_delay_is_held_to_this_roads_lag(self):
         self.refuses([[(2, 0, 0)]], 1, 0)
         self.refuses([[(60, 0, 0)]], 59, 0)
