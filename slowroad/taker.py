@@ -37,7 +37,8 @@ class Taker:
         return (self.got % self.ring, self.room_left(), tuple(held))
 
     def read(self, most):
-        many = min(most, self.got - self.out)
-        things = [self.kept.pop(place) for place in range(self.out, self.out + many)]
-        self.out += many
+        things = []
+        for place in range(self.out, min(self.out + most, self.got)):
+            things.append(self.kept.pop(place))
+        self.out += len(things)
         return things

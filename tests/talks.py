@@ -47,4 +47,8 @@ def some_wish(draw, last):
 
 def some_wishes(draw, most=25):
     last = draw.choice((0, 5, 40, 200))
-    return [some_wish(draw, last) for i in range(draw.randint(0, most))]
+    wishes = [some_wish(draw, last) for i in range(draw.randint(0, most - 1))]
+    if draw.random() < 0.8:
+        # Else most of them would be refused.
+        wishes.insert(draw.randint(0, len(wishes)), (0, draw.randrange(2), "begin", None))
+    return wishes

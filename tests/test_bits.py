@@ -9,7 +9,8 @@ GREATEST = 2 ** 74 - 1
 
 def some_frames():
     draw = random.Random(27)
-    return [0, 1, 2, 255, 256, 2 ** 73, 2 ** 73 + 1, GREATEST - 1, GREATEST] + [draw.getrandbits(74) for i in range(200)]
+    edges = [0, 1, 2, 255, 256, 2 ** 73, 2 ** 73 + 1, GREATEST - 1, GREATEST]
+    return edges + [draw.getrandbits(74) for i in range(200)]
 
 
 class BitsOf(unittest.TestCase):

@@ -41,7 +41,8 @@ class Counted(unittest.TestCase):
         meter.known(2)
         meter.ran_out()
         self.assertEqual(stand(meter), (1, 2, 0))
-        right = [(2, 2, 0), (2, 2, 1), (3, 2, 0), (3, 2, 1), (3, 2, 2), (4, 2, 0), (4, 2, 1), (4, 2, 2), (4, 2, 3), (5, 2, 0)]
+        right = [(2, 2, 0), (2, 2, 1), (3, 2, 0), (3, 2, 1), (3, 2, 2), (4, 2, 0), (4, 2, 1), (4, 2, 2), (4, 2, 3),
+            (5, 2, 0)]
         self.assertEqual(self.stands(meter, 10), right)
 
     def test_window_of_one_at_a_knee_of_one(self):

@@ -253,7 +253,8 @@ class Refused(unittest.TestCase):
         self.assertEqual(stand(pair), (2, 4, 3))
 
     def test_at_first_nothing_has_gone(self):
-        for comings, answers, item in (([0], [], None), ([-1], [], None), ([], [0], None), ([], [-1], None), ([], [], 1)):
+        for comings, answers, item in (([0], [], None), ([-1], [], None), ([], [0], None), ([], [-1], None),
+                ([], [], 1)):
             pair = Pair(12, 3, 3)
             with self.assertRaises(BadTurn) as taken:
                 pair.play(comings, answers, item)
@@ -325,7 +326,8 @@ class Whole(unittest.TestCase):
                 back = range(max(0, turn - lag), turn)
                 sent = [t for t in back if items[t] is not None]
                 # The oldest ones, and many comings at once, are what fools a smaller ring.
-                comings = [draw.choice((sent[0], sent[-1], draw.choice(sent))) for j in range(draw.randrange(5)) if sent]
+                likely = [sent[0], sent[-1], draw.choice(sent)] if sent else []
+                comings = [draw.choice(likely) for j in range(draw.randrange(5)) if likely]
                 answers = [draw.choice((back[-1], draw.choice(back))) for j in range(draw.choice((0, 1, 3))) if back]
                 item = draw.choice((pair.base, pair.top))
                 try:

@@ -6,7 +6,8 @@ from slowroad.terms import Terms
 
 class Made(unittest.TestCase):
     def test_fields_as_handed_in(self):
-        for given in ((64, (16, 3), 32, 5, 40), (2, (1, 1), 1, 2, 2), (63, (16, 16), 32, 64, 64), (17, (1, 8), 2, 2, 64)):
+        for given in ((64, (16, 3), 32, 5, 40), (2, (1, 1), 1, 2, 2), (63, (16, 16), 32, 64, 64),
+                (17, (1, 8), 2, 2, 64)):
             terms = Terms(*given)
             self.assertEqual((terms.ring, terms.rooms, terms.lag, terms.first, terms.longest), given)
             self.assertIs(type(terms.rooms), tuple)
@@ -46,7 +47,8 @@ class Refused(unittest.TestCase):
         self.good(lag=32)
 
     def test_waits(self):
-        for first, longest in ((1, 40), (0, 40), (-2, 40), (41, 40), (5, 4), (5, 65), (65, 65), (64, 65), (1, 1), (2, 1)):
+        for first, longest in ((1, 40), (0, 40), (-2, 40), (41, 40), (5, 4), (5, 65), (65, 65), (64, 65), (1, 1),
+                (2, 1)):
             self.bad(first=first, longest=longest)
         for first, longest in ((2, 2), (2, 64), (64, 64), (40, 40)):
             self.good(first=first, longest=longest)

@@ -57,7 +57,8 @@ def plain_rows(terms, roads, wishes, turns):
         for side in (0, 1):
             s, t = hands[side].sender, hands[side].taker
             rows.append(
-                ("end", turn, side, hands[side].name(), s.base, s.top, s.edge, t.got, t.out, s.meter.window, s.ways.wait)
+                ("end", turn, side, hands[side].name(), s.base, s.top, s.edge, t.got, t.out, s.meter.window,
+                s.ways.wait)
             )
     return rows
 
@@ -96,12 +97,14 @@ class Refused(unittest.TestCase):
         self.bad_road(([], [[], [], [(0, 0, 0)]]), 2, [(-1, 0, "begin", None)])
 
     def test_parts_of_a_wish(self):
-        good = [(0, 0, "begin", None), (400, 1, "end", None), (400, 0, "put", "a" * 60), (0, 1, "read", 60), (9, 0, "read", 1)]
+        good = [(0, 0, "begin", None), (400, 1, "end", None), (400, 0, "put", "a" * 60), (0, 1, "read", 60),
+            (9, 0, "read", 1)]
         Walk(TERMS, PLAIN, good)
         wrong = (
             (-1, 0, "begin", None), (401, 0, "begin", None), (10 ** 9, 0, "begin", None),
             (0, -1, "begin", None), (0, 2, "begin", None),
-            (0, 0, "start", None), (0, 0, "", None), (0, 0, "Begin", None), (0, 0, "begin ", None), (0, 0, "wish", None),
+            (0, 0, "start", None), (0, 0, "", None), (0, 0, "Begin", None), (0, 0, "begin ", None),
+            (0, 0, "wish", None),
             (0, 0, "begin", ""), (0, 0, "begin", "a"), (0, 0, "begin", 0), (0, 0, "begin", 1),
             (0, 0, "end", ""), (0, 0, "end", "a"), (0, 0, "end", 0), (0, 0, "end", 5),
             (0, 0, "put", None), (0, 0, "put", ""), (0, 0, "put", "a" * 61), (0, 0, "put", "a%"), (0, 0, "put", "a\n"),
@@ -128,7 +131,8 @@ class Refused(unittest.TestCase):
 class Rows(unittest.TestCase):
     def test_word_for_word(self):
         terms = Terms(8, (3, 2), 2, 5, 40)
-        wishes = [(1, 1, "read", 2), (0, 0, "begin", None), (0, 1, "end", None), (0, 0, "put", "hello"), (2, 0, "begin", None)]
+        wishes = [(1, 1, "read", 2), (0, 0, "begin", None), (0, 1, "end", None), (0, 0, "put", "hello"),
+            (2, 0, "begin", None)]
         walk = Walk(terms, ([[(1, 0, 0), (2, 0, 1)]], []), wishes)
         self.assertEqual(walk.rows(), [])
         for i in range(4):
@@ -184,13 +188,15 @@ class Rows(unittest.TestCase):
             self.assertIn(word, words)
 
     def test_wishes_stand_in_the_order_of_the_list(self):
-        wishes = [(1, 1, "read", 1), (0, 0, "end", None), (1, 0, "begin", None), (0, 0, "begin", None), (0, 1, "begin", None)]
+        wishes = [(1, 1, "read", 1), (0, 0, "end", None), (1, 0, "begin", None), (0, 0, "begin", None),
+            (0, 1, "begin", None)]
         walk = Walk(TERMS, PLAIN, wishes)
         walk.step()
         walk.step()
         told = [row for row in walk.rows() if row[0] == "wish"]
         self.assertEqual(told, [
-            ("wish", 0, 0, "end", None, "shut"), ("wish", 0, 0, "begin", None, "ok"), ("wish", 0, 1, "begin", None, "ok"),
+            ("wish", 0, 0, "end", None, "shut"), ("wish", 0, 0, "begin", None, "ok"),
+            ("wish", 0, 1, "begin", None, "ok"),
             ("wish", 1, 1, "read", 1, "ok"), ("wish", 1, 0, "begin", None, "open"),
         ])
 
@@ -278,14 +284,27 @@ class Runs(unittest.TestCase):
         walk = Walk(TERMS, PLAIN, [(0, 0, "begin", None), (12, 0, "read", 9), (12, 1, "read", 9)])
         for i in range(13):
             walk.step()
-        self.assertEqual([row[3:9] for row in walk.rows()[-2:]], [("open", 1, 1, row[6], 1, 1) for row in walk.rows()[-2:]])
+        for row in walk.rows()[-2:]:
+            self.assertEqual((row[3:6], row[7:9]), (("open", 1, 1), (1, 1)))
         self.assertEqual([row for row in walk.rows() if row[0] == "sent" and row[1] > 9], [])
         self.assertIs(walk.quiet(), False)
         self.assertGreater(walk.run(100), 14)
         self.assertIs(walk.quiet(), True)
 
+    def test_not_quiet_while_something_is_unread(self):
+        wishes = [(0, 0, "begin", None), (5, 0, "end", None), (8, 1, "end", None)]
+        for reads, turns in (([(40, 0, "read", 9)], 42), ([(40, 1, "read", 9)], 42),
+                             ([(40, 0, "read", 9), (40, 1, "read", 9)], 41)):
+            walk = Walk(TERMS, PLAIN, wishes + reads)
+            for i in range(41):
+                walk.step()
+            self.assertEqual([(row[3], row[7]) for row in walk.rows()[-2:]], [("shut", 2), ("shut", 2)])
+            self.assertIs(walk.quiet(), turns == 41)
+            self.assertEqual(walk.run(100), turns)
+
     def test_it_goes_on_till_it_is_quiet_and_no_further(self):
-        walk, other = (Walk(TERMS, (BAD_DEEDS, WORSE_DEEDS), [(0, 0, "begin", None), (1, 1, "begin", None)]) for i in "ab")
+        wishes = [(0, 0, "begin", None), (1, 1, "begin", None)]
+        walk, other = (Walk(TERMS, (BAD_DEEDS, WORSE_DEEDS), wishes) for i in "ab")
         turns = walk.run(2000)
         self.assertTrue(10 < turns < 2000)
         self.assertIs(walk.quiet(), True)
@@ -333,7 +352,8 @@ class Runs(unittest.TestCase):
 
 class Given(unittest.TestCase):
     def test_in_and_out(self):
-        walk = Walk(TERMS, PLAIN, [(0, 0, "begin", None), (0, 0, "put", "hello"), (9, 1, "put", "you"), (30, 0, "end", None)])
+        walk = Walk(TERMS, PLAIN, [(0, 0, "begin", None), (0, 0, "put", "hello"), (9, 1, "put", "you"),
+            (30, 0, "end", None)])
         self.assertEqual([walk.given_in(0), walk.given_in(1), walk.given_out(0), walk.given_out(1)], [[], [], [], []])
         walk.run(200)
         first = [("begin", ""), ("signs", "hell"), ("signs", "o"), ("end", "")]
@@ -344,7 +364,8 @@ class Given(unittest.TestCase):
         self.assertEqual(walk.given_out(0), second)
 
     def test_out_is_what_was_read_alone(self):
-        walk = Walk(TERMS, PLAIN, [(0, 0, "begin", None), (0, 0, "put", "abcdefgh"), (12, 1, "read", 1), (14, 1, "read", 60)])
+        walk = Walk(TERMS, PLAIN, [(0, 0, "begin", None), (0, 0, "put", "abcdefgh"), (12, 1, "read", 1),
+            (14, 1, "read", 60)])
         told = []
         for i in range(15):
             walk.step()
@@ -436,7 +457,8 @@ class StateNames(unittest.TestCase):
 
     def test_from_one_side(self):
         for side in (0, 1):
-            names = self.names_of(TERMS, PLAIN, [(0, side, "begin", None), (9, side, "end", None), (16, side, "read", 1)])
+            names = self.names_of(TERMS, PLAIN, [(0, side, "begin", None), (9, side, "end", None),
+                (16, side, "read", 1)])
             seen = [name for at, name in enumerate(names) if at == 0 or names[at - 1] != name]
             right = [
                 ("calling", "shut"), ("calling", "open"), ("open", "open"), ("leaving", "open"), ("leaving", "left"),
@@ -447,7 +469,8 @@ class StateNames(unittest.TestCase):
     def test_from_both_at_once(self):
         names = self.names_of(
             TERMS, PLAIN,
-            [(0, 0, "begin", None), (0, 1, "begin", None), (9, 0, "end", None), (9, 1, "end", None), (30, 0, "read", 1)],
+            [(0, 0, "begin", None), (0, 1, "begin", None), (9, 0, "end", None), (9, 1, "end", None),
+            (30, 0, "read", 1)],
         )
         seen = [name for at, name in enumerate(names) if at == 0 or names[at - 1] != name]
         right = ["calling", "open", "leaving", "closing", "shut"]

@@ -45,7 +45,8 @@ class Measured(unittest.TestCase):
         self.assertEqual(stand(ways), ((19, 4), (9, 4), 14))
 
     def test_first_measure(self):
-        for m, spread, wait in ((0, (0, 1), 2), (1, (1, 2), 3), (2, (1, 1), 6), (3, (3, 2), 9), (10 ** 6, (500000, 1), 900)):
+        for m, spread, wait in ((0, (0, 1), 2), (1, (1, 2), 3), (2, (1, 1), 6), (3, (3, 2), 9),
+                (10 ** 6, (500000, 1), 900)):
             ways = Ways(4, 900)
             ways.measured(m)
             self.assertEqual(stand(ways), ((m, 1), spread, wait))
